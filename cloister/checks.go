@@ -1,0 +1,81 @@
+package cloister
+
+import "cloister/api"
+
+// request is a trap under way: the thread that asks, and what was needed so far.
+type request struct {
+	k    *Kernel
+	t    *thread
+	used int
+}
+
+// fits keeps what was needed only if the check holds: a failed check does not count as use.
+func (r *request) fits(inner, outer int) api.Errno {
+	needed := inner &^ outer
+	if needed&^r.t.owns != 0 {
+		return api.ErrLabel
+	}
+	r.used |= needed
+	return api.OK
+}
+
+func (r *request) mayRead(o object) api.Errno {
+	return r.fits(o.labelOf(), r.t.labelOf())
+}
+
+func (r *request) mayWrite(o object) api.Errno {
+	return r.fits(r.t.labelOf(), o.labelOf())
+}
+
+func (r *request) reach(slot int) api.Errno {
+	return r.enter(r.k.home(slot))
+}
+
+// enter reads a container behind all those around it, so that the outermost check comes first.
+func (r *request) enter(c *container) api.Errno {
+	if c == nil {
+		return api.OK
+	}
+	if err := r.reach(c.place()); err != api.OK {
+		return err
+	}
+	return r.mayRead(c)
+}
+
+// find reaches a slot in which something must be.
+func (r *request) find(slot int) (object, api.Errno) {
+	if err := r.reach(slot); err != api.OK {
+		return nil, err
+	}
+	o := r.k.slots[slot]
+	if o == nil {
+		return nil, api.ErrDead
+	}
+	return o, api.OK
+}
+
+// mayMake asks what is asked of the making of every object.
+func (r *request) mayMake(in, slot, label int) api.Errno {
+	o, err := r.find(in)
+	if err != api.OK {
+		return err
+	}
+	if err := r.mayRead(o); err != api.OK {
+		return err
+	}
+	if err := r.mayWrite(o); err != api.OK {
+		return err
+	}
+	c, ok := o.(*container)
+	if !ok {
+		return api.ErrKind
+	}
+	if r.k.slots[slot] != nil || r.k.home(slot) != c {
+		return api.ErrBusy
+	}
+	// Owning does not help here: what lies in a container may not be less secret than it.
+	if c.labelOf()&^label != 0 {
+		return api.ErrLabel
+	}
+	return r.fits(r.t.labelOf(), label)
+}
