@@ -53,7 +53,10 @@ func TestNoSuchTrap(t *testing.T) {
 			play(t, k, []step{{number, make([]int, count), fails(api.ErrTrap, 0)}})
 		}
 	}
-	counts := map[int]int{api.Self: 0, api.Kind: 1, api.Label: 1, api.NewSegment: 3, api.Read: 2, api.Write: 3}
+	counts := map[int]int{
+		api.Self: 0, api.Kind: 1, api.Label: 1, api.NewSegment: 3, api.Read: 2, api.Write: 3,
+		api.NewContainer: 7, api.FreeSlot: 1,
+	}
 	for number, right := range counts {
 		for count := range 9 {
 			if count != right {
@@ -104,12 +107,15 @@ func TestNothingPanics(t *testing.T) {
 	edges := []int{math.MinInt, -1, 0, 1, 2, 3, 7, 8, 31, 32, 255, 256, math.MaxInt}
 	k := cloister.Boot()
 	ask := func(number int, args ...int) {
+		if k.Now().Thread == -1 {
+			k = cloister.Boot()
+		}
 		if o := k.Trap(number, args...); o.Err != api.OK && o.Value != 0 {
 			t.Errorf("Trap(%d, %v) = %+v", number, args, o)
 		}
 		k.Tick()
 	}
-	for number := -1; number <= 7; number++ {
+	for number := -1; number <= 17; number++ {
 		ask(number)
 		for _, x := range edges {
 			ask(number, x)
@@ -117,6 +123,10 @@ func TestNothingPanics(t *testing.T) {
 				ask(number, x, y)
 				for _, z := range edges {
 					ask(number, x, y, z)
+					ask(number, x, y, z, x)
+					ask(number, 0, 2, 0, x, y, z, 8)
+					ask(number, x, y, 0, 3, z, 0, 4)
+					ask(number, 0, 31, x, 4, 30, y, z)
 				}
 			}
 		}

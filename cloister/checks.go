@@ -79,3 +79,21 @@ func (r *request) mayMake(in, slot, label int) api.Errno {
 	}
 	return r.fits(r.t.labelOf(), label)
 }
+
+// mayHave asks whether a container that comes to lie in c at this slot can have these ranges.
+func (r *request) mayHave(c *container, slot int, slots, quanta span) api.Errno {
+	if slots.has(slot) {
+		return api.ErrBusy
+	}
+	for s := slots.first; s < slots.end; s++ {
+		if r.k.slots[s] != nil || r.k.home(s) != c {
+			return api.ErrBusy
+		}
+	}
+	for q := quanta.first; q < quanta.end; q++ {
+		if r.k.quantumHome(q) != c {
+			return api.ErrBusy
+		}
+	}
+	return api.OK
+}

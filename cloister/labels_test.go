@@ -12,8 +12,7 @@ import (
 // asThread gives a kernel whose current thread, in slot 1, has this label and owns this.
 func asThread(label, owns int) *Kernel {
 	k := Boot()
-	t := &thread{base: base{slot: 1, kind: api.Thread, label: label}, owns: owns, awake: true}
-	k.put(t)
+	t := k.layThread(1, label, owns)
 	for q := range k.quanta {
 		k.quanta[q] = t
 	}
@@ -21,10 +20,21 @@ func asThread(label, owns int) *Kernel {
 }
 
 func (k *Kernel) layContainer(slot, label, first, end int) {
+	k.layRanges(slot, label, span{first, end}, span{})
+}
+
+func (k *Kernel) layRanges(slot, label int, slots, quanta span) {
 	k.put(&container{
-		base:  base{slot: slot, kind: api.Container, label: label},
-		slots: span{first, end},
+		base:   base{slot: slot, kind: api.Container, label: label},
+		slots:  slots,
+		quanta: quanta,
 	})
+}
+
+func (k *Kernel) layThread(slot, label, owns int) *thread {
+	t := &thread{base: base{slot: slot, kind: api.Thread, label: label}, owns: owns, awake: true}
+	k.put(t)
+	return t
 }
 
 func (k *Kernel) laySegment(slot, label, word int) {
@@ -168,6 +178,119 @@ func TestMakingByLabels(t *testing.T) {
 	}
 }
 
+// P1, P3, P6: a container is made like anything else; what is wrong with its ranges counts behind that.
+func TestNewContainerByLabels(t *testing.T) {
+	for n := range few * few * few * few {
+		label, owns, in, l := n%few, n/few%few, n/few/few%few, n/few/few/few
+		k := asThread(label, owns)
+		k.layRanges(2, in, span{10, 20}, span{4, 8})
+		k.laySegment(3, in, 0)
+		k.laySegment(10, 0, 0)
+		k.layRanges(11, in, span{18, 19}, span{7, 8})
+
+		ask := tally{owns: owns}
+		ask.needs(in, label)
+		ask.needs(label, in)
+		wrongKind, taken := ask, ask
+		wrongKind.stop(true, api.ErrKind)
+		taken.stop(true, api.ErrBusy)
+		ask.stop(in&l != in, api.ErrLabel)
+		ask.needs(label, l)
+		wrongRange := ask
+		wrongRange.stop(true, api.ErrBusy)
+
+		k.expect(t, wrongKind.out, api.NewContainer, 3, 12, l, 12, 13, 0, 8)
+		k.expect(t, taken.out, api.NewContainer, 2, 10, l, 13, 15, 4, 6)
+		k.expect(t, taken.out, api.NewContainer, 2, 20, l, 13, 15, 4, 6)
+		k.expect(t, taken.out, api.NewContainer, 2, 18, l, 13, 15, 4, 6)
+		k.expect(t, wrongRange.out, api.NewContainer, 2, 12, l, 12, 15, 4, 6) // its own slot
+		k.expect(t, wrongRange.out, api.NewContainer, 2, 12, l, 10, 11, 4, 6) // not free
+		k.expect(t, wrongRange.out, api.NewContainer, 2, 12, l, 9, 10, 4, 6)  // outside
+		k.expect(t, wrongRange.out, api.NewContainer, 2, 12, l, 18, 19, 4, 6) // further inside
+		k.expect(t, wrongRange.out, api.NewContainer, 2, 12, l, 13, 15, 3, 4)
+		k.expect(t, wrongRange.out, api.NewContainer, 2, 12, l, 13, 15, 7, 8)
+		k.expect(t, ask.out, api.NewContainer, 2, 12, l, 13, 15, 4, 6)
+		made := k.slots[12] != nil
+		if made != (ask.out.Err == api.OK) {
+			t.Errorf("label %d, owns %d, container %d, l %d: made is %v", label, owns, in, l, made)
+		}
+		want := container{base: base{12, api.Container, l}, slots: span{13, 15}, quanta: span{4, 6}}
+		if made && *k.slots[12].(*container) != want {
+			t.Errorf("made %+v", k.slots[12])
+		}
+		for q := range api.Quanta {
+			if lost := k.quanta[q] == nil; lost != (made && (q == 4 || q == 5)) {
+				t.Errorf("quantum %d: no thread is %v, made is %v", q, lost, made)
+			}
+		}
+	}
+}
+
+// P1, P3, P6: to free asks to reach the slot and to write where it lies; what goes does not matter.
+func TestFreeByLabels(t *testing.T) {
+	for n := range few * few * few * few {
+		label, owns, outer, inner := n%few, n/few%few, n/few/few%few, n/few/few/few
+		k := asThread(label, owns)
+		k.layContainer(2, outer, 10, 20)
+		k.layContainer(10, inner, 12, 16)
+		k.laySegment(12, 7, 5)
+
+		ask := tally{owns: owns}
+		ask.needs(outer, label)
+		ask.needs(inner, label)
+		dead := ask
+		dead.stop(true, api.ErrDead)
+		ask.needs(label, inner)
+		k.expect(t, api.Out{Err: api.ErrArg}, api.FreeSlot, 0)
+		k.expect(t, dead.out, api.FreeSlot, 13)
+		k.expect(t, ask.out, api.FreeSlot, 12)
+		if gone := k.slots[12] == nil; gone != (ask.out.Err == api.OK) {
+			t.Errorf("label %d, owns %d, containers %d %d: gone is %v", label, owns, outer, inner, gone)
+		}
+
+		ask = tally{owns: owns}
+		ask.needs(outer, label)
+		ask.needs(label, outer)
+		k.expect(t, ask.out, api.FreeSlot, 10)
+		ask = tally{owns: owns}
+		ask.needs(label, 0)
+		k.expect(t, ask.out, api.FreeSlot, 2)
+	}
+}
+
+// P6: with a container all go that lie in it, the threads too, from quanta that lie elsewhere as well.
+func TestFreedThreadsLoseAllQuanta(t *testing.T) {
+	k := Boot()
+	k.layRanges(2, 0, span{10, 20}, span{4, 8})
+	k.layRanges(11, 0, span{13, 15}, span{6, 7})
+	deep := k.layThread(13, 0, 0)
+	k.laySegment(9, 0, 1)
+	k.laySegment(10, 0, 1)
+	k.laySegment(19, 0, 1)
+	k.laySegment(20, 0, 1)
+	k.quanta[3], k.quanta[6] = deep, deep
+	k.expect(t, api.Out{}, api.FreeSlot, 2)
+	for s, o := range k.slots {
+		if here := o != nil; here != (s == 0 || s == 1 || s == 9 || s == 20) {
+			t.Errorf("slot %d: something is there: %v", s, here)
+		}
+	}
+	k.layThread(13, 0, 255)
+	for q := range api.Quanta {
+		want := api.Now{Phase: q, Thread: -1}
+		if q < 3 {
+			want.Thread = 1
+		}
+		if n := k.Now(); n != want {
+			t.Errorf("%+v, want %+v", n, want)
+		}
+		if home := k.quantumHome(q); home.place() != 0 {
+			t.Errorf("quantum %d lies in the container at %d", q, home.place())
+		}
+		k.Tick()
+	}
+}
+
 // P3: reaching reads each container around a slot, the outermost first.
 func TestReachFromTheRootOn(t *testing.T) {
 	rows := []struct {
@@ -245,8 +368,7 @@ func TestIdle(t *testing.T) {
 // P4, P5: the current thread is that of the phase's quantum, and it is who asks.
 func TestThreadsTakeTurns(t *testing.T) {
 	k := Boot()
-	other := &thread{base: base{slot: 9, kind: api.Thread, label: 6}, owns: 2, awake: true}
-	k.put(other)
+	other := k.layThread(9, 6, 2)
 	k.quanta[3], k.quanta[4] = other, nil
 	k.laySegment(2, 6, 8)
 	wants := [api.Quanta]api.Now{3: {Phase: 3, Thread: 9, Label: 6}, 4: {Phase: 4, Thread: -1}}
@@ -277,22 +399,31 @@ func TestThreadsTakeTurns(t *testing.T) {
 // P1: with an error nothing changes, at all arguments around the edges.
 func TestErrorsChangeNothing(t *testing.T) {
 	edges := []int{-1, 0, 1, 2, 3, 10, 12, 31, 32, 256}
-	k := asThread(4, 1)
-	k.layContainer(2, 1, 10, 20)
-	k.laySegment(12, 3, 5)
-	for number := -1; number <= 17; number++ {
-		for _, x := range edges {
-			for _, y := range edges {
-				for _, z := range edges {
-					for count := range 4 {
-						args := []int{x, y, z}[:count]
-						before := k.all()
-						if o := k.Trap(number, args...); o.Err != api.OK && (o.Value != 0 || k.all() != before) {
-							t.Fatalf("Trap(%d, %v) = %+v changed\n%s to\n%s", number, args, o, before, k.all())
-						}
-					}
+	for _, lay := range []func() *Kernel{
+		func() *Kernel { return asThread(4, 1) },
+		func() *Kernel { return asThread(0, 255) },
+	} {
+		for n := range 19 * len(edges) * len(edges) {
+			k := lay()
+			k.layContainer(2, 1, 10, 20)
+			k.laySegment(12, 3, 5)
+			number, x, y := n%19-1, edges[n/19%len(edges)], edges[n/19/len(edges)]
+			for _, z := range edges {
+				for count := range 4 {
+					k.changesOnlyIfOK(t, number, []int{x, y, z}[:count]...)
 				}
+				k.changesOnlyIfOK(t, number, 2, x, 1, y, z, 4, 5)
+				k.changesOnlyIfOK(t, number, 0, 3, x, 4, 5, y, z)
 			}
 		}
+	}
+}
+
+func (k *Kernel) changesOnlyIfOK(t *testing.T, number int, args ...int) {
+	t.Helper()
+	before := k.all()
+	o := k.Trap(number, args...)
+	if o.Err != api.OK && (o.Value != 0 || k.all() != before) {
+		t.Fatalf("Trap(%d, %v) = %+v changed\n%s to\n%s", number, args, o, before, k.all())
 	}
 }

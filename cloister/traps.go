@@ -15,11 +15,15 @@ type trap struct {
 // bounds has both ends in it: a word may be any int, the greatest one too.
 type bounds struct {
 	least, most int
+	closes      bool // the end of a range: not below the argument ahead of it
 }
 
 func (t trap) admits(args []int) bool {
 	for i, b := range t.takes {
 		if args[i] < b.least || args[i] > b.most {
+			return false
+		}
+		if b.closes && args[i] < args[i-1] {
 			return false
 		}
 	}
@@ -28,17 +32,23 @@ func (t trap) admits(args []int) bool {
 
 // trapOf tells false if there is no trap of this number.
 func trapOf(number int) (trap, bool) {
-	slot := bounds{0, api.Slots - 1}
-	label := bounds{0, api.MaxLabel}
-	index := bounds{0, api.Words - 1}
-	word := bounds{math.MinInt, math.MaxInt}
+	slot := bounds{least: 0, most: api.Slots - 1}
+	label := bounds{least: 0, most: api.MaxLabel}
+	index := bounds{least: 0, most: api.Words - 1}
+	word := bounds{least: math.MinInt, most: math.MaxInt}
+	firstSlot := bounds{least: 1, most: api.Slots}
+	endSlot := bounds{least: 1, most: api.Slots, closes: true}
+	firstQuantum := bounds{least: 0, most: api.Quanta}
+	endQuantum := bounds{least: 0, most: api.Quanta, closes: true}
 	table := [...]trap{
-		api.Self:       {nil, (*request).self},
-		api.Kind:       {[]bounds{slot}, (*request).kind},
-		api.Label:      {[]bounds{slot}, (*request).label},
-		api.NewSegment: {[]bounds{slot, slot, label}, (*request).newSegment},
-		api.Read:       {[]bounds{slot, index}, (*request).readWord},
-		api.Write:      {[]bounds{slot, index, word}, (*request).writeWord},
+		api.Self:         {nil, (*request).self},
+		api.Kind:         {[]bounds{slot}, (*request).kind},
+		api.Label:        {[]bounds{slot}, (*request).label},
+		api.NewSegment:   {[]bounds{slot, slot, label}, (*request).newSegment},
+		api.Read:         {[]bounds{slot, index}, (*request).readWord},
+		api.Write:        {[]bounds{slot, index, word}, (*request).writeWord},
+		api.NewContainer: {[]bounds{slot, slot, label, firstSlot, endSlot, firstQuantum, endQuantum}, (*request).newContainer},
+		api.FreeSlot:     {[]bounds{slot}, (*request).free},
 	}
 	if number < 0 || number >= len(table) || table[number].does == nil {
 		return trap{}, false
@@ -106,5 +116,40 @@ func (r *request) writeWord(args ...int) (int, api.Errno) {
 		return 0, api.ErrKind
 	}
 	s.words[args[1]] = args[2]
+	return 0, api.OK
+}
+
+func (r *request) newContainer(args ...int) (int, api.Errno) {
+	in, slot, label := args[0], args[1], args[2]
+	slots, quanta := span{args[3], args[4]}, span{args[5], args[6]}
+	if err := r.mayMake(in, slot, label); err != api.OK {
+		return 0, err
+	}
+	if err := r.mayHave(r.k.home(slot), slot, slots, quanta); err != api.OK {
+		return 0, err
+	}
+	r.k.put(&container{
+		base:   base{slot: slot, kind: api.Container, label: label},
+		slots:  slots,
+		quanta: quanta,
+	})
+	r.k.dropThreads(quanta)
+	return 0, api.OK
+}
+
+func (r *request) free(args ...int) (int, api.Errno) {
+	slot := args[0]
+	// To reach the root nothing is asked, so that this counts first.
+	if slot == 0 {
+		return 0, api.ErrArg
+	}
+	o, err := r.find(slot)
+	if err != api.OK {
+		return 0, err
+	}
+	if err := r.mayWrite(r.k.home(slot)); err != api.OK {
+		return 0, err
+	}
+	r.k.remove(o)
 	return 0, api.OK
 }

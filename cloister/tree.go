@@ -20,10 +20,21 @@ func (k *Kernel) holds(o object) bool {
 
 // home is the container in which a slot lies; nil for the root's own slot, which lies in none.
 func (k *Kernel) home(slot int) *container {
+	return k.innermost(func(c *container) bool { return c.slots.has(slot) })
+}
+
+// quantumHome is the container in which a quantum lies.
+func (k *Kernel) quantumHome(quantum int) *container {
+	return k.innermost(func(c *container) bool { return c.quanta.has(quantum) })
+}
+
+// innermost goes by the ranges of slots for quanta too: containers one in another may have the
+// same quanta, but never the same slots.
+func (k *Kernel) innermost(around func(*container) bool) *container {
 	var least *container
 	for _, o := range k.slots {
 		c, ok := o.(*container)
-		if !ok || !c.slots.has(slot) {
+		if !ok || !around(c) {
 			continue
 		}
 		if least == nil || c.slots.size() < least.slots.size() {
@@ -31,4 +42,23 @@ func (k *Kernel) home(slot int) *container {
 		}
 	}
 	return least
+}
+
+// remove needs no walk through the tree: what lies in a container, however deep, is in its ranges.
+func (k *Kernel) remove(o object) {
+	k.slots[o.place()] = nil
+	c, ok := o.(*container)
+	if !ok {
+		return
+	}
+	for slot := c.slots.first; slot < c.slots.end; slot++ {
+		k.slots[slot] = nil
+	}
+	k.dropThreads(c.quanta)
+}
+
+func (k *Kernel) dropThreads(quanta span) {
+	for q := quanta.first; q < quanta.end; q++ {
+		k.quanta[q] = nil
+	}
 }
