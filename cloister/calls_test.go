@@ -9,28 +9,6 @@ import (
 	"cloister/cloister"
 )
 
-// step is a trap, and what it must tell.
-type step struct {
-	number int
-	args   []int
-	want   api.Out
-}
-
-func play(t *testing.T, k *cloister.Kernel, steps []step) {
-	t.Helper()
-	for i, s := range steps {
-		if got := k.Trap(s.number, s.args...); got != s.want {
-			t.Errorf("step %d: Trap(%d, %v) = %+v, want %+v", i, s.number, s.args, got, s.want)
-		}
-	}
-}
-
-func with(args ...int) []int { return args }
-
-func tells(value, used int) api.Out { return api.Out{Value: value, Used: used} }
-
-func fails(err api.Errno, used int) api.Out { return api.Out{Err: err, Used: used} }
-
 func TestFirstExample(t *testing.T) {
 	play(t, cloister.Boot(), []step{
 		{4, with(0, 2, 3), tells(0, 0)},
@@ -53,10 +31,6 @@ func TestNoSuchTrap(t *testing.T) {
 			play(t, k, []step{{number, make([]int, count), fails(api.ErrTrap, 0)}})
 		}
 	}
-	counts := map[int]int{
-		api.Self: 0, api.Kind: 1, api.Label: 1, api.NewSegment: 3, api.Read: 2, api.Write: 3,
-		api.NewContainer: 7, api.FreeSlot: 1,
-	}
 	for number, right := range counts {
 		for count := range 9 {
 			if count != right {
@@ -70,7 +44,7 @@ func TestNoSuchTrap(t *testing.T) {
 
 // P1: an argument that may not be counts ahead of everything that the slot would tell.
 func TestArgumentEdges(t *testing.T) {
-	const slot, label, index = api.Slots, api.MaxLabel + 1, api.Words
+	const slot, quantum, label, index = api.Slots, api.Quanta, api.MaxLabel + 1, api.Words
 	rows := []struct {
 		number int
 		ends   []int // the first number that may not be; 0: any may
@@ -80,6 +54,10 @@ func TestArgumentEdges(t *testing.T) {
 		{api.NewSegment, with(slot, slot, label)},
 		{api.Read, with(slot, index)},
 		{api.Write, with(slot, index, 0)},
+		{api.NewThread, with(slot, slot, label, label)},
+		{api.Give, with(quantum, slot)},
+		{api.Drop, with(quantum)},
+		{api.Wake, with(slot)},
 	}
 	for _, r := range rows {
 		for i, end := range r.ends {

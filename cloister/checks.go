@@ -97,3 +97,15 @@ func (r *request) mayHave(c *container, slot int, slots, quanta span) api.Errno 
 	}
 	return api.OK
 }
+
+// mayChange asks whether a quantum can get or lose its thread, and tells the container in which it lies.
+func (r *request) mayChange(quantum int) (*container, api.Errno) {
+	home := r.k.quantumHome(quantum)
+	if err := r.enter(home); err != api.OK {
+		return nil, err
+	}
+	if err := r.mayWrite(home); err != api.OK {
+		return nil, err
+	}
+	return home, api.OK
+}

@@ -21,17 +21,6 @@ func nested(t *testing.T) *cloister.Kernel {
 	return k
 }
 
-// threads tells the current thread of each quantum, from the next phase on, round to this one.
-func threads(k *cloister.Kernel) [api.Quanta]int {
-	var slots [api.Quanta]int
-	for range api.Quanta {
-		k.Tick()
-		n := k.Now()
-		slots[n.Phase] = n.Thread
-	}
-	return slots
-}
-
 // P6: a slot lies in the innermost container, and only there something can be made in it.
 func TestWhereSlotsLie(t *testing.T) {
 	homes := [api.Slots]int{11: 2, 10: 2, 12: 11, 13: 12, 14: 12, 15: 12, 16: 2, 17: 2, 18: 2, 19: 2}

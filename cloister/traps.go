@@ -40,6 +40,8 @@ func trapOf(number int) (trap, bool) {
 	endSlot := bounds{least: 1, most: api.Slots, closes: true}
 	firstQuantum := bounds{least: 0, most: api.Quanta}
 	endQuantum := bounds{least: 0, most: api.Quanta, closes: true}
+	quantum := bounds{least: 0, most: api.Quanta - 1}
+	categories := bounds{least: 0, most: api.MaxLabel}
 	table := [...]trap{
 		api.Self:         {nil, (*request).self},
 		api.Kind:         {[]bounds{slot}, (*request).kind},
@@ -49,6 +51,11 @@ func trapOf(number int) (trap, bool) {
 		api.Write:        {[]bounds{slot, index, word}, (*request).writeWord},
 		api.NewContainer: {[]bounds{slot, slot, label, firstSlot, endSlot, firstQuantum, endQuantum}, (*request).newContainer},
 		api.FreeSlot:     {[]bounds{slot}, (*request).free},
+		api.NewThread:    {[]bounds{slot, slot, label, categories}, (*request).newThread},
+		api.Give:         {[]bounds{quantum, slot}, (*request).give},
+		api.Drop:         {[]bounds{quantum}, (*request).drop},
+		api.Sleep:        {nil, (*request).sleep},
+		api.Wake:         {[]bounds{slot}, (*request).wake},
 	}
 	if number < 0 || number >= len(table) || table[number].does == nil {
 		return trap{}, false
@@ -151,5 +158,74 @@ func (r *request) free(args ...int) (int, api.Errno) {
 		return 0, err
 	}
 	r.k.remove(o)
+	return 0, api.OK
+}
+
+func (r *request) newThread(args ...int) (int, api.Errno) {
+	in, slot, label, owns := args[0], args[1], args[2], args[3]
+	if err := r.mayMake(in, slot, label); err != api.OK {
+		return 0, err
+	}
+	// No check: to hand on what is owned lets nothing out, so nothing is needed for it.
+	if owns&^r.t.owns != 0 {
+		return 0, api.ErrLabel
+	}
+	r.k.put(&thread{
+		base:  base{slot: slot, kind: api.Thread, label: label},
+		owns:  owns,
+		awake: true,
+	})
+	return 0, api.OK
+}
+
+func (r *request) give(args ...int) (int, api.Errno) {
+	quantum, slot := args[0], args[1]
+	home, err := r.mayChange(quantum)
+	if err != api.OK {
+		return 0, err
+	}
+	o, err := r.find(slot)
+	if err != api.OK {
+		return 0, err
+	}
+	t, ok := o.(*thread)
+	if !ok {
+		return 0, api.ErrKind
+	}
+	// A thread hears when its turn comes, so it must be one that may hear of the quantum.
+	if err := r.fits(home.labelOf(), t.labelOf()); err != api.OK {
+		return 0, err
+	}
+	r.k.quanta[quantum] = t
+	return 0, api.OK
+}
+
+func (r *request) drop(args ...int) (int, api.Errno) {
+	quantum := args[0]
+	if _, err := r.mayChange(quantum); err != api.OK {
+		return 0, err
+	}
+	r.k.quanta[quantum] = nil
+	return 0, api.OK
+}
+
+func (r *request) sleep(args ...int) (int, api.Errno) {
+	r.t.awake = false
+	return 0, api.OK
+}
+
+func (r *request) wake(args ...int) (int, api.Errno) {
+	o, err := r.find(args[0])
+	if err != api.OK {
+		return 0, err
+	}
+	if err := r.mayWrite(o); err != api.OK {
+		return 0, err
+	}
+	t, ok := o.(*thread)
+	if !ok {
+		return 0, api.ErrKind
+	}
+	t.awake = true
 	return 0, api.OK
 }
