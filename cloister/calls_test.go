@@ -58,6 +58,9 @@ func TestArgumentEdges(t *testing.T) {
 		{api.Give, with(quantum, slot)},
 		{api.Drop, with(quantum)},
 		{api.Wake, with(slot)},
+		{api.NewPort, with(slot, slot, label)},
+		{api.Send, with(slot, 0)},
+		{api.Receive, with(slot)},
 	}
 	for _, r := range rows {
 		for i, end := range r.ends {
@@ -127,12 +130,28 @@ func TestArgumentsStayTheCallers(t *testing.T) {
 	if !slices.Equal(room, []int{2, 3, 55, 1000, 1001}) {
 		t.Errorf("Write wrote into its arguments: %v", room)
 	}
+	k.Trap(api.NewPort, 0, 3, 0)
+	room[0], room[1] = 3, 66
+	k.Trap(api.Send, room[:2]...)
+	if !slices.Equal(room, []int{3, 66, 55, 1000, 1001}) {
+		t.Errorf("Send wrote into its arguments: %v", room)
+	}
+	room = append(with(0, 4, 0, 10, 20, 2, 4), 1000)
+	k.Trap(api.NewContainer, room[:7]...)
+	if !slices.Equal(room, append(with(0, 4, 0, 10, 20, 2, 4), 1000)) {
+		t.Errorf("NewContainer wrote into its arguments: %v", room)
+	}
+	view := k.View(api.MaxLabel)
 	clear(room)
 	play(t, k, []step{
 		{api.Kind, with(2), tells(api.Segment, 0)},
 		{api.Label, with(2), tells(1, 0)},
 		{api.Read, with(2, 3), tells(55, 1)},
 	})
+	if got := k.View(api.MaxLabel); !slices.Equal(got, view) {
+		t.Errorf("%v has become %v", view, got)
+	}
+	play(t, k, []step{{api.Receive, with(3), tells(66, 0)}})
 }
 
 // P2: kernels share nothing.
@@ -146,12 +165,16 @@ func TestKernelsShareNothing(t *testing.T) {
 		{api.NewSegment, with(0, 2, 4), tells(0, 0)},
 		{api.Write, with(2, 0, 9), tells(0, 0)},
 		{api.NewSegment, with(0, 3, 0), tells(0, 0)},
+		{api.NewPort, with(0, 4, 0), tells(0, 0)},
+		{api.Send, with(4, 9), tells(0, 0)},
 	})
 	one.Tick()
 	play(t, two, []step{
 		{api.Label, with(2), tells(0, 0)},
 		{api.Read, with(2, 0), tells(0, 0)},
 		{api.Kind, with(3), tells(api.Free, 0)},
+		{api.NewPort, with(0, 4, 0), tells(0, 0)},
+		{api.Receive, with(4), fails(api.ErrEmpty, 0)},
 	})
 	if n := two.Now(); n != (api.Now{Thread: 1}) {
 		t.Errorf("another kernel's tick came through: %+v", n)

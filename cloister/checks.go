@@ -9,10 +9,13 @@ type request struct {
 	used int
 }
 
+// within tells whether all of one set of categories is in another one.
+func within(inner, outer int) bool { return inner&^outer == 0 }
+
 // fits keeps what was needed only if the check holds: a failed check does not count as use.
 func (r *request) fits(inner, outer int) api.Errno {
 	needed := inner &^ outer
-	if needed&^r.t.owns != 0 {
+	if !within(needed, r.t.owns) {
 		return api.ErrLabel
 	}
 	r.used |= needed
@@ -54,13 +57,28 @@ func (r *request) find(slot int) (object, api.Errno) {
 	return o, api.OK
 }
 
+// findToRead finds what must be there, and may be read.
+func (r *request) findToRead(slot int) (object, api.Errno) {
+	o, err := r.find(slot)
+	if err != api.OK {
+		return nil, err
+	}
+	return o, r.mayRead(o)
+}
+
+// findToWrite finds what must be there, and may be written.
+func (r *request) findToWrite(slot int) (object, api.Errno) {
+	o, err := r.find(slot)
+	if err != api.OK {
+		return nil, err
+	}
+	return o, r.mayWrite(o)
+}
+
 // mayMake asks what is asked of the making of every object.
 func (r *request) mayMake(in, slot, label int) api.Errno {
-	o, err := r.find(in)
+	o, err := r.findToRead(in)
 	if err != api.OK {
-		return err
-	}
-	if err := r.mayRead(o); err != api.OK {
 		return err
 	}
 	if err := r.mayWrite(o); err != api.OK {
@@ -74,7 +92,7 @@ func (r *request) mayMake(in, slot, label int) api.Errno {
 		return api.ErrBusy
 	}
 	// Owning does not help here: what lies in a container may not be less secret than it.
-	if c.labelOf()&^label != 0 {
+	if !within(c.labelOf(), label) {
 		return api.ErrLabel
 	}
 	return r.fits(r.t.labelOf(), label)

@@ -63,4 +63,12 @@ func (k *Kernel) Now() api.Now {
 }
 
 // View tells all that may be known under a label (P9).
-func (k *Kernel) View(label int) []int { return nil }
+func (k *Kernel) View(label int) []int {
+	if label < 0 || label > api.MaxLabel {
+		return nil
+	}
+	v := &view{k: k, label: label}
+	v.tell(k.phase)
+	v.tellContainers(0)
+	return v.numbers
+}

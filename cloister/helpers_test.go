@@ -1,6 +1,7 @@
 package cloister_test
 
 import (
+	"slices"
 	"testing"
 
 	"cloister/api"
@@ -28,6 +29,7 @@ var counts = map[int]int{
 	api.Self: 0, api.Kind: 1, api.Label: 1, api.NewSegment: 3, api.Read: 2, api.Write: 3,
 	api.NewContainer: 7, api.FreeSlot: 1,
 	api.NewThread: 4, api.Give: 2, api.Drop: 1, api.Sleep: 0, api.Wake: 1,
+	api.NewPort: 3, api.Send: 2, api.Receive: 1,
 }
 
 func with(args ...int) []int { return args }
@@ -94,10 +96,13 @@ func (y *trial) ask(want api.Out, number int, args ...int) {
 	y.Helper()
 	was := y.seen()
 	goTo(y.k, 1)
-	who := y.k.Now()
+	who, view := y.k.Now(), y.k.View(api.MaxLabel)
 	got := y.k.Trap(number, args...)
 	if got != want {
 		y.Errorf("Trap(%d, %v) = %+v, want %+v, by %+v", number, args, got, want, who)
+	}
+	if is := y.k.View(api.MaxLabel); got.Err != api.OK && !slices.Equal(is, view) {
+		y.Errorf("Trap(%d, %v) = %+v changed the view\n%v to\n%v", number, args, got, view, is)
 	}
 	y.stale = true
 	if is := y.seen(); got.Err != api.OK && is != was {

@@ -231,6 +231,9 @@ func TestIdle(t *testing.T) {
 		y.ask(fails(api.ErrIdle, 0), api.Wake, 31)
 		y.ask(fails(api.ErrIdle, 0), api.Give, 1, 1)
 		y.ask(fails(api.ErrIdle, 0), api.Drop, 2)
+		y.ask(fails(api.ErrIdle, 0), api.NewPort, 0, 2, 255)
+		y.ask(fails(api.ErrIdle, 0), api.Send, 2, 1)
+		y.ask(fails(api.ErrIdle, 0), api.Receive, 99)
 		goTo(y.k, 1)
 		y.k.Tick()
 		if n := y.k.Now(); n.Phase != 2 {
@@ -243,7 +246,7 @@ func TestIdle(t *testing.T) {
 func TestErrorsChangeNothing(t *testing.T) {
 	for seed := range 1000 {
 		random := rand.New(rand.NewSource(int64(seed)))
-		one, other := crowd(t), crowd(t)
+		one, other := crowded(t), crowded(t)
 		for range 60 {
 			number, args := someTrap(random)
 			o := one.Trap(number, args...)
@@ -252,6 +255,9 @@ func TestErrorsChangeNothing(t *testing.T) {
 			}
 			if o.Err == api.OK {
 				play(t, other, []step{{number, args, o}})
+			}
+			if !slices.Equal(one.View(api.MaxLabel), other.View(api.MaxLabel)) {
+				t.Fatalf("seed %d: Trap(%d, %v) = %+v has changed something", seed, number, args, o)
 			}
 			for again := random.Intn(2) == 0; again; again = one.Now().Thread == -1 && random.Intn(8) > 0 {
 				one.Tick()
@@ -264,21 +270,33 @@ func TestErrorsChangeNothing(t *testing.T) {
 	}
 }
 
-// crowd has threads of several labels, and containers in containers.
-func crowd(t *testing.T) *cloister.Kernel {
+// crowd is what the first thread asks to get threads of several labels, and containers in containers.
+var crowd = [][]int{
+	{api.NewThread, 0, 31, 1, 2},
+	{api.Give, 1, 31},
+	{api.NewContainer, 0, 2, 1, 10, 20, 4, 8},
+	{api.NewContainer, 2, 11, 3, 12, 16, 6, 8},
+	{api.NewThread, 0, 3, 2, 1},
+	{api.NewThread, 2, 10, 1, 0},
+	{api.NewThread, 11, 12, 3, 3},
+	{api.Give, 2, 3},
+	{api.Give, 4, 10},
+	{api.Give, 6, 12},
+	{api.NewSegment, 0, 4, 1},
+	{api.NewSegment, 2, 16, 3},
+	{api.NewPort, 0, 5, 1},
+	{api.NewPort, 2, 17, 1},
+}
+
+func crowded(t *testing.T) *cloister.Kernel {
 	t.Helper()
-	y := try(t, 1, 2)
-	y.lay(api.NewContainer, 0, 2, 1, 10, 20, 4, 8)
-	y.lay(api.NewContainer, 2, 11, 3, 12, 16, 6, 8)
-	y.lay(api.NewThread, 0, 3, 2, 1)
-	y.lay(api.NewThread, 2, 10, 1, 0)
-	y.lay(api.NewThread, 11, 12, 3, 3)
-	y.lay(api.Give, 2, 3)
-	y.lay(api.Give, 4, 10)
-	y.lay(api.Give, 6, 12)
-	y.lay(api.NewSegment, 0, 4, 1)
-	y.lay(api.NewSegment, 2, 16, 3)
-	return y.k
+	k := cloister.Boot()
+	for _, c := range crowd {
+		if o := k.Trap(c[0], c[1:]...); o.Err != api.OK {
+			t.Fatalf("Trap(%v) = %+v", c, o)
+		}
+	}
+	return k
 }
 
 // someTrap chooses mostly traps that may be, with numbers that often meet something in a crowd.
@@ -299,6 +317,9 @@ func someTrap(random *rand.Rand) (int, []int) {
 		if random.Intn(20) == 0 {
 			args[i] = random.Intn(300) - 1
 		}
+	}
+	if (number == api.Send || number == api.Receive) && len(args) > 0 && random.Intn(2) == 0 {
+		args[0] = with(5, 17)[random.Intn(2)]
 	}
 	if len(args) > 2 && random.Intn(2) == 0 {
 		args[0] = with(0, 2, 11)[random.Intn(3)]

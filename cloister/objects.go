@@ -7,6 +7,7 @@ type object interface {
 	place() int
 	kindOf() int
 	labelOf() int
+	inside() []int // what a view tells to those who may read it
 }
 
 // base is what objects of all kinds have; it stays as long as the object is there.
@@ -21,6 +22,11 @@ func (b base) labelOf() int { return b.label }
 type segment struct {
 	base
 	words [api.Words]int
+}
+
+type port struct {
+	base
+	words chan int // with room for api.Room of them; closed when the port goes
 }
 
 type thread struct {
@@ -41,3 +47,29 @@ type span struct {
 
 func (s span) has(n int) bool { return s.first <= n && n < s.end }
 func (s span) size() int      { return s.end - s.first }
+
+func (s *segment) inside() []int { return s.words[:] }
+
+// A channel tells its words only by giving them out: each one goes in again at the end, so that
+// behind a whole round all stand as before.
+func (p *port) inside() []int {
+	count := len(p.words)
+	numbers := []int{count}
+	for range count {
+		word := <-p.words
+		p.words <- word
+		numbers = append(numbers, word)
+	}
+	return numbers
+}
+
+func (t *thread) inside() []int {
+	if t.awake {
+		return []int{t.owns, 1}
+	}
+	return []int{t.owns, 0}
+}
+
+func (c *container) inside() []int {
+	return []int{c.slots.first, c.slots.end, c.quanta.first, c.quanta.end}
+}

@@ -56,6 +56,9 @@ func trapOf(number int) (trap, bool) {
 		api.Drop:         {[]bounds{quantum}, (*request).drop},
 		api.Sleep:        {nil, (*request).sleep},
 		api.Wake:         {[]bounds{slot}, (*request).wake},
+		api.NewPort:      {[]bounds{slot, slot, label}, (*request).newPort},
+		api.Send:         {[]bounds{slot, word}, (*request).send},
+		api.Receive:      {[]bounds{slot}, (*request).receive},
 	}
 	if number < 0 || number >= len(table) || table[number].does == nil {
 		return trap{}, false
@@ -71,11 +74,7 @@ func (r *request) kind(args ...int) (int, api.Errno) {
 	if err := r.reach(args[0]); err != api.OK {
 		return 0, err
 	}
-	o := r.k.slots[args[0]]
-	if o == nil {
-		return api.Free, api.OK
-	}
-	return o.kindOf(), api.OK
+	return r.k.kindIn(args[0]), api.OK
 }
 
 func (r *request) label(args ...int) (int, api.Errno) {
@@ -96,11 +95,8 @@ func (r *request) newSegment(args ...int) (int, api.Errno) {
 }
 
 func (r *request) readWord(args ...int) (int, api.Errno) {
-	o, err := r.find(args[0])
+	o, err := r.findToRead(args[0])
 	if err != api.OK {
-		return 0, err
-	}
-	if err := r.mayRead(o); err != api.OK {
 		return 0, err
 	}
 	s, ok := o.(*segment)
@@ -111,11 +107,8 @@ func (r *request) readWord(args ...int) (int, api.Errno) {
 }
 
 func (r *request) writeWord(args ...int) (int, api.Errno) {
-	o, err := r.find(args[0])
+	o, err := r.findToWrite(args[0])
 	if err != api.OK {
-		return 0, err
-	}
-	if err := r.mayWrite(o); err != api.OK {
 		return 0, err
 	}
 	s, ok := o.(*segment)
@@ -167,7 +160,7 @@ func (r *request) newThread(args ...int) (int, api.Errno) {
 		return 0, err
 	}
 	// No check: to hand on what is owned lets nothing out, so nothing is needed for it.
-	if owns&^r.t.owns != 0 {
+	if !within(owns, r.t.owns) {
 		return 0, api.ErrLabel
 	}
 	r.k.put(&thread{
@@ -215,11 +208,8 @@ func (r *request) sleep(args ...int) (int, api.Errno) {
 }
 
 func (r *request) wake(args ...int) (int, api.Errno) {
-	o, err := r.find(args[0])
+	o, err := r.findToWrite(args[0])
 	if err != api.OK {
-		return 0, err
-	}
-	if err := r.mayWrite(o); err != api.OK {
 		return 0, err
 	}
 	t, ok := o.(*thread)
@@ -228,4 +218,57 @@ func (r *request) wake(args ...int) (int, api.Errno) {
 	}
 	t.awake = true
 	return 0, api.OK
+}
+
+func (r *request) newPort(args ...int) (int, api.Errno) {
+	in, slot, label := args[0], args[1], args[2]
+	if err := r.mayMake(in, slot, label); err != api.OK {
+		return 0, err
+	}
+	r.k.put(&port{
+		base:  base{slot: slot, kind: api.Port, label: label},
+		words: make(chan int, api.Room),
+	})
+	return 0, api.OK
+}
+
+func (r *request) send(args ...int) (int, api.Errno) {
+	o, err := r.findToWrite(args[0])
+	if err != api.OK {
+		return 0, err
+	}
+	p, ok := o.(*port)
+	if !ok {
+		return 0, api.ErrKind
+	}
+	select {
+	case p.words <- args[1]:
+		return 0, api.OK
+	default:
+	}
+	// Owning does not help here: who may not read the port does not hear that it is full.
+	if within(p.labelOf(), r.t.labelOf()) {
+		return 0, api.ErrFull
+	}
+	return 0, api.OK
+}
+
+func (r *request) receive(args ...int) (int, api.Errno) {
+	o, err := r.findToRead(args[0])
+	if err != api.OK {
+		return 0, err
+	}
+	if err := r.mayWrite(o); err != api.OK {
+		return 0, err
+	}
+	p, ok := o.(*port)
+	if !ok {
+		return 0, api.ErrKind
+	}
+	select {
+	case word := <-p.words:
+		return word, api.OK
+	default:
+		return 0, api.ErrEmpty
+	}
 }

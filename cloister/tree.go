@@ -1,13 +1,31 @@
 package cloister
 
+import "cloister/api"
+
 func (k *Kernel) put(o object) {
 	k.slots[o.place()] = o
 }
 
+func (k *Kernel) kindIn(slot int) int {
+	if k.slots[slot] == nil {
+		return api.Free
+	}
+	return k.slots[slot].kindOf()
+}
+
 // current is nil if there is no current thread.
 func (k *Kernel) current() *thread {
-	t := k.quanta[k.phase]
-	if t == nil || !t.awake || !k.holds(t) {
+	t := k.threadOf(k.phase)
+	if t == nil || !t.awake {
+		return nil
+	}
+	return t
+}
+
+// threadOf is nil if a quantum has no thread, or that has gone.
+func (k *Kernel) threadOf(quantum int) *thread {
+	t := k.quanta[quantum]
+	if t == nil || !k.holds(t) {
 		return nil
 	}
 	return t
@@ -46,15 +64,23 @@ func (k *Kernel) innermost(around func(*container) bool) *container {
 
 // remove needs no walk through the tree: what lies in a container, however deep, is in its ranges.
 func (k *Kernel) remove(o object) {
-	k.slots[o.place()] = nil
+	k.empty(o.place())
 	c, ok := o.(*container)
 	if !ok {
 		return
 	}
 	for slot := c.slots.first; slot < c.slots.end; slot++ {
-		k.slots[slot] = nil
+		k.empty(slot)
 	}
 	k.dropThreads(c.quanta)
+}
+
+// empty closes the channel of a port, which nobody can come to any more.
+func (k *Kernel) empty(slot int) {
+	if p, ok := k.slots[slot].(*port); ok {
+		close(p.words)
+	}
+	k.slots[slot] = nil
 }
 
 func (k *Kernel) dropThreads(quanta span) {
